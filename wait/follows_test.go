@@ -80,6 +80,20 @@ func TestAloneItIsParked(t *testing.T) { // P14.3: from each mask, and epochs at
 	}
 }
 
+func TestAloneFromAllMasks(t *testing.T) { // P14.3: each of eight workers, behind the greatest epoch but one
+	c := api.Conf{W: 8, D: 1, I: 1}
+	m := lay.New(c)
+	for mask := range uint64(1 << 16) {
+		m[eventAt] = (1<<48-2)*65536 + mask
+		for w := range c.W {
+			end, _ := parksAlone(t, c, m, w)
+			if end[eventAt] != withBit(m[eventAt], w) {
+				t.Fatalf("worker %d, mask %d: %d", w, mask, end[eventAt])
+			}
+		}
+	}
+}
+
 func TestAloneAtEachNewPool(t *testing.T) { // P14.3: each layout, and each worker of it
 	for _, c := range layouts() {
 		for w := range c.W {
